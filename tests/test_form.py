@@ -1,0 +1,125 @@
+"""The form of the package: those rules of the language subset that are easy to check by machine."""
+
+import ast
+import re
+import unittest
+import warnings
+from pathlib import Path
+
+FOLDER = Path(__file__).resolve().parent.parent / "groupsteps"
+# What the interface of the document lists for each file.
+INTERFACE = {
+    "names.py": ["is_name", "is_version"],
+    "windows.py": ["is_window", "contains", "rises", "first_falling", "least_reaching", "format_window",
+                   "parse_window"],
+}
+BARRED_WORDS = re.compile(
+    r"\b(type|typing|typing_extensions|enum|Enum|IntEnum|StrEnum|Flag|IntFlag|Generic|Protocol|ABC|ABCMeta|namedtuple"
+    r"|NamedTuple|TypedDict|TYPE_CHECKING|abstractmethod)\b|dataclass|overload|contextmanager")
+BUILTINS = {
+    "len", "range", "enumerate", "zip", "min", "max", "sum", "abs", "sorted", "reversed", "int", "str", "bool", "bytes",
+    "list", "tuple", "dict", "set", "isinstance", "ord", "repr", "any", "all", "divmod", "iter", "next", "property",
+    "staticmethod", "classmethod", "super", "NotImplemented", "Exception", "ValueError", "TypeError", "KeyError",
+    "IndexError", "LookupError", "ZeroDivisionError", "ArithmeticError", "RuntimeError",
+}
+
+
+def package_files():
+    return sorted(FOLDER.glob("*.py"))
+
+
+def tree_of(path):
+    return ast.parse(path.read_text(encoding="utf-8"))
+
+
+def nodes(path, *kinds):
+    return [node for node in ast.walk(tree_of(path)) if isinstance(node, kinds)]
+
+
+def defined_names(path):
+    names = []
+    for node in tree_of(path).body:
+        if isinstance(node, (ast.FunctionDef, ast.ClassDef)):
+            names.append(node.name)
+        elif isinstance(node, ast.Assign):
+            names.append(node.targets[0].id)
+    return names
+
+
+def bound_names(path):
+    """Every name that the file gives a meaning, at any level."""
+    names = [node.name for node in nodes(path, ast.FunctionDef, ast.ClassDef)]
+    names += [node.arg for node in nodes(path, ast.arg)]
+    names += [node.id for node in nodes(path, ast.Name) if isinstance(node.ctx, ast.Store)]
+    names += [alias.asname or alias.name for node in nodes(path, ast.ImportFrom) for alias in node.names]
+    return names
+
+
+class Form(unittest.TestCase):
+    def test_the_folder_holds_python_files_only(self):
+        names = sorted(path.name for path in FOLDER.iterdir() if path.name != "__pycache__")
+        self.assertIn("__init__.py", names)
+        for name in names:
+            self.assertRegex(name, r"\A(__init__|[a-z][a-z0-9_]*)\.py\Z")
+
+    def test_sizes_and_characters(self):
+        for path in package_files():
+            text = path.read_text(encoding="utf-8")
+            with self.subTest(path.name):
+                self.assertLessEqual(len(text.splitlines()), 399)
+                self.assertLessEqual(max(len(line) for line in text.split("\n")), 120)
+                self.assertRegex(text, r"\A[ -~\n]*\Z")
+                self.assertNotRegex(text, BARRED_WORDS)
+                for function in nodes(path, ast.FunctionDef):
+                    self.assertLessEqual(function.end_lineno - function.lineno + 1, 40)
+
+    def test_no_warning_of_python(self):
+        for path in package_files():
+            with self.subTest(path.name), warnings.catch_warnings():
+                warnings.simplefilter("error")
+                compile(path.read_text(encoding="utf-8"), path.name, "exec")
+
+    def test_imports_name_the_defining_file(self):
+        for path in package_files():
+            self.assertEqual(nodes(path, ast.Import), [])
+            for node in nodes(path, ast.ImportFrom):
+                with self.subTest(path.name, module=node.module):
+                    self.assertRegex(node.module, r"\Agroupsteps\.[a-z]+\Z")
+                    source = FOLDER / (node.module.split(".")[1] + ".py")
+                    for alias in node.names:
+                        self.assertIn(alias.name, defined_names(source))
+
+    def test_module_level_and_statements(self):
+        allowed = (ast.Expr, ast.ImportFrom, ast.FunctionDef, ast.ClassDef, ast.Assign)
+        barred = (ast.Global, ast.AsyncFunctionDef, ast.Await, ast.Div, ast.AnnAssign)
+        for path in package_files():
+            with self.subTest(path.name):
+                self.assertTrue(all(isinstance(node, allowed) for node in tree_of(path).body))
+                self.assertEqual(nodes(path, *barred), [])
+                self.assertFalse(any("%" in node.value for node in nodes(path, ast.Constant)
+                                     if isinstance(node.value, str)))
+
+    def test_names_are_plain_and_none_hides_another(self):
+        for path in package_files():
+            bound = bound_names(path)
+            level = defined_names(path) + [alias.name for node in nodes(path, ast.ImportFrom) for alias in node.names]
+            with self.subTest(path.name):
+                self.assertEqual(len(level), len(set(level)))
+                self.assertEqual(BUILTINS & set(bound), set())
+                self.assertEqual([name for name in bound if name.startswith("_") and name != "__init__"], [])
+
+    def test_only_known_names_are_read(self):
+        for path in package_files():
+            known = BUILTINS | set(bound_names(path))
+            read = {node.id for node in nodes(path, ast.Name) if isinstance(node.ctx, ast.Load)}
+            with self.subTest(path.name):
+                self.assertEqual(read - known, set())
+
+    def test_the_interface_is_defined_in_its_files(self):
+        for name, listed in INTERFACE.items():
+            with self.subTest(name):
+                self.assertEqual([each for each in listed if each not in defined_names(FOLDER / name)], [])
+
+
+if __name__ == "__main__":
+    unittest.main()
