@@ -12,7 +12,20 @@ INTERFACE = {
     "names.py": ["is_name", "is_version"],
     "windows.py": ["is_window", "contains", "rises", "first_falling", "least_reaching", "format_window",
                    "parse_window"],
+    "catalogs.py": ["MOST_MODULES", "MOST_VERSIONS", "MOST_USES", "Catalog", "catalog_of"],
+    "states.py": ["is_state", "conflicts", "first_conflict", "is_below", "lower_state", "upper_state"],
+    "demands.py": ["is_demand", "settled", "following", "is_chain", "failing_chain", "demanded"],
+    "least.py": ["least_state", "greatest_state", "least_with", "greatest_with", "least_meeting", "why"],
 }
+# The methods that the interface lists for each class.
+METHODS = {
+    "Catalog": ["__init__", "modules", "uses", "users", "versions", "publish", "window", "withdraw", "is_available",
+                "available", "history", "clone", "__eq__", "__len__", "__repr__"],
+}
+OWN_METHODS = ["__init__", "__eq__", "__len__", "__repr__", "__str__"]
+METHODS_OF_VALUES = {"append", "add", "get", "index", "items", "join", "partition", "values"}
+# With these a list must be given, not a generator expression.
+TAKE_LISTS = ["any", "all", "min", "max", "sum", "sorted"]
 BARRED_WORDS = re.compile(
     r"\b(type|typing|typing_extensions|enum|Enum|IntEnum|StrEnum|Flag|IntFlag|Generic|Protocol|ABC|ABCMeta|namedtuple"
     r"|NamedTuple|TypedDict|TYPE_CHECKING|abstractmethod)\b|dataclass|overload|contextmanager")
@@ -106,7 +119,16 @@ class Form(unittest.TestCase):
             with self.subTest(path.name):
                 self.assertEqual(len(level), len(set(level)))
                 self.assertEqual(BUILTINS & set(bound), set())
-                self.assertEqual([name for name in bound if name.startswith("_") and name != "__init__"], [])
+                self.assertEqual([name for name in bound if name.startswith("_") and name not in OWN_METHODS], [])
+
+    def test_no_local_name_hides_a_class_or_an_import(self):
+        for path in package_files():
+            taken = [node.name for node in nodes(path, ast.ClassDef)]
+            taken += [alias.name for node in nodes(path, ast.ImportFrom) for alias in node.names]
+            local = [node.arg for node in nodes(path, ast.arg)]
+            local += [node.id for node in nodes(path, ast.Name) if isinstance(node.ctx, ast.Store)]
+            with self.subTest(path.name):
+                self.assertEqual(set(taken) & set(local), set())
 
     def test_only_known_names_are_read(self):
         for path in package_files():
@@ -119,6 +141,40 @@ class Form(unittest.TestCase):
         for name, listed in INTERFACE.items():
             with self.subTest(name):
                 self.assertEqual([each for each in listed if each not in defined_names(FOLDER / name)], [])
+
+    def test_the_methods_stand_in_their_classes(self):
+        found = {node.name: node for path in package_files() for node in nodes(path, ast.ClassDef)}
+        for name, listed in METHODS.items():
+            defined = [each.name for each in found[name].body if isinstance(each, ast.FunctionDef)]
+            with self.subTest(name):
+                self.assertEqual(len(defined), len(set(defined)))
+                self.assertEqual([each for each in listed if each not in defined], [])
+
+    def test_no_attribute_has_the_name_of_a_method(self):
+        methods, assigned, read = set(), set(), set()
+        for path in package_files():
+            for node in nodes(path, ast.ClassDef):
+                methods |= {each.name for each in node.body if isinstance(each, ast.FunctionDef)}
+            for node in nodes(path, ast.Attribute):
+                (assigned if isinstance(node.ctx, ast.Store) else read).add(node.attr)
+        self.assertEqual(methods & assigned, set())
+        self.assertEqual(read - assigned - methods - METHODS_OF_VALUES, set())
+
+    def test_lists_and_no_generator_expressions(self):
+        for path in package_files():
+            for node in nodes(path, ast.Call):
+                if isinstance(node.func, ast.Name) and node.func.id in TAKE_LISTS:
+                    with self.subTest(path.name, line=node.lineno):
+                        self.assertFalse(any(isinstance(each, ast.GeneratorExp) for each in node.args))
+
+    def test_no_two_files_import_from_each_other(self):
+        imports = {path.stem: [node.module.split(".")[1] for node in nodes(path, ast.ImportFrom)]
+                   for path in package_files()}
+        while imports:
+            free = [name for name in imports if not any(other in imports for other in imports[name])]
+            self.assertNotEqual(free, [], f"a circle: {sorted(imports)}")
+            for name in free:
+                del imports[name]
 
 
 if __name__ == "__main__":
