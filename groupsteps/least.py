@@ -86,14 +86,22 @@ def least_with(catalog, module, version):
     return least_of(catalog, [(module, version)])
 
 
-def greatest_with(catalog, module, version):
+def require_bound(catalog, module, version):
+    """Raises an error unless some consistent state has this version of the module or an earlier one."""
     require_module_version(catalog, module, version)
     chain = chain_to_version(first_search(catalog), module, version + 1)
     if chain is not None:
         raise Unreachable(chain)
-    tops = latest_versions(catalog)
-    tops[module] = min(version, tops[module])
-    return greatest_below(catalog, tops)
+
+
+def greatest_bounded(catalog, tops, module, version):
+    """The greatest consistent state not above tops with this version or an earlier one; there must be one."""
+    return greatest_below(catalog, {**tops, module: min(version, tops[module])})
+
+
+def greatest_with(catalog, module, version):
+    require_bound(catalog, module, version)
+    return greatest_bounded(catalog, latest_versions(catalog), module, version)
 
 
 def least_meeting(catalog, **versions):

@@ -50,10 +50,19 @@ def require_consistent(catalog, state):
         raise NotConsistent(user, used)
 
 
+def is_under(one, other):
+    """Whether a state is below another one, both of which are known to be states."""
+    return all([one[module] <= other[module] for module in one])
+
+
 def is_below(catalog, one, other):
     require_state(catalog, one)
     require_state(catalog, other)
-    return all([one[module] <= other[module] for module in catalog.modules()])
+    return is_under(one, other)
+
+
+def in_order(catalog, state):
+    return {module: state[module] for module in catalog.modules()}
 
 
 def require_two(catalog, one, other):

@@ -76,6 +76,39 @@ def random_catalogs(count, seed=0, most_modules=4, most_versions=4):
     return [random_catalog(numbers, most_modules, most_versions) for number in range(count)]
 
 
+def close_windows(numbers, count):
+    """Rising windows that follow the versions closely, so that modules often switch together."""
+    windows = []
+    low = high = 0
+    for number in range(count):
+        low += [0, 0, 1, 1, 1][numbers.below(5)] if number else 0
+        high = max(high, low + [0, 0, 1, 1, 2][numbers.below(5)])
+        windows.append((low, high if number < 3 or numbers.below(4) else None))
+        if windows[-1][1] is None:
+            return [*windows, *[(low, None)] * (count - number - 1)]
+    return windows
+
+
+def close_catalog(numbers, most_modules=4, most_versions=4):
+    """A catalog in which the versions 0 work together, before a few withdrawals."""
+    names = MODULES[:2 + numbers.below(most_modules - 1)]
+    uses = {name: tuple(other for other in names if other != name and numbers.below(5) < 2) for name in names}
+    catalog = Catalog(uses)
+    for name in names:
+        columns = [close_windows(numbers, most_versions) for used in uses[name]]
+        for version in range(2 + numbers.below(most_versions - 1)):
+            catalog.publish(name, [column[version] for column in columns])
+    for name in names:
+        if numbers.below(5) == 0:
+            catalog.withdraw(name, numbers.below(catalog.versions(name)))
+    return catalog
+
+
+def close_catalogs(count, seed=0, most_modules=4, most_versions=4):
+    numbers = Numbers(seed)
+    return [close_catalog(numbers, most_modules, most_versions) for number in range(count)]
+
+
 def all_states(catalog):
     names = catalog.modules()
     return [dict(zip(names, row)) for row in product(*[catalog.available(name) for name in names])]

@@ -165,6 +165,245 @@ raises Unreachable(chain=[('shell', 2), ('core', 2)])
 >>> c = catalog_of([("core", ("store",), [[(0, 0)], [(0, 1)], [(1, None)]]), ("store", ("core",), [[(0, 1)], [(1, 2)]]), ("shell", ("core",), [[(0, 1)], [(0, 2)], [(2, None)]])])
 >>> [why(c, "shell", 2, "store"), why(c, "store", 1, "shell")]
 [[('shell', 2), ('core', 2), ('store', 1)], None]
+
+>>> from groupsteps.catalogs import catalog_of
+>>> from groupsteps.steps import all_steps
+>>> c = catalog_of([("core", ("store",), [[(0, 0)], [(0, 1)], [(1, None)]]), ("store", ("core",), [[(0, 1)], [(1, 2)]]), ("shell", ("core",), [[(0, 1)], [(0, 2)], [(2, None)]])])
+>>> [all_steps(c), all_steps(c, module="store")]
+[[(('core', 0, 1),), (('core', 1, 2),), (('store', 0, 1),), (('shell', 0, 1),), (('shell', 1, 2),)], [(('store', 0, 1),)]]
+
+>>> from groupsteps.catalogs import catalog_of
+>>> from groupsteps.steps import all_steps
+>>> p = catalog_of([("core", ("store",), [[(0, 0)], [(1, 2)]]), ("store", ("core",), [[(0, 0)], [(1, None)]])])
+>>> all_steps(p)
+[(('core', 0, 1), ('store', 0, 1))]
+
+>>> from groupsteps.catalogs import catalog_of
+>>> from groupsteps.steps import all_steps
+>>> c = catalog_of([("core", ("store",), [[(0, 0)], [(0, 1)], [(1, None)]]), ("store", ("core",), [[(0, 1)], [(1, 2)]]), ("shell", ("core",), [[(0, 1)], [(0, 2)], [(2, None)]])])
+>>> c.withdraw("core", 1)
+>>> all_steps(c)
+[(('core', 0, 2), ('store', 0, 1)), (('shell', 0, 1),), (('shell', 1, 2),)]
+
+>>> from groupsteps.catalogs import catalog_of
+>>> from groupsteps.steps import is_step, step_to
+>>> p = catalog_of([("core", ("store",), [[(0, 0)], [(1, 2)]]), ("store", ("core",), [[(0, 0)], [(1, None)]])])
+>>> [step_to(p, "store", 1), is_step(p, (("core", 0, 1),))]
+[(('core', 0, 1), ('store', 0, 1)), False]
+
+>>> from groupsteps.catalogs import catalog_of
+>>> from groupsteps.steps import end_of, start_of
+>>> c = catalog_of([("core", ("store",), [[(0, 0)], [(0, 1)], [(1, None)]]), ("store", ("core",), [[(0, 1)], [(1, 2)]]), ("shell", ("core",), [[(0, 1)], [(0, 2)], [(2, None)]])])
+>>> step = (("core", 1, 2),)
+>>> [start_of(c, step), end_of(c, step)]
+[{'core': 1, 'store': 1, 'shell': 1}, {'core': 2, 'store': 1, 'shell': 1}]
+
+>>> from groupsteps.catalogs import catalog_of
+>>> from groupsteps.steps import direct_needs, needs
+>>> c = catalog_of([("core", ("store",), [[(0, 0)], [(0, 1)], [(1, None)]]), ("store", ("core",), [[(0, 1)], [(1, 2)]]), ("shell", ("core",), [[(0, 1)], [(0, 2)], [(2, None)]])])
+>>> step = (("core", 1, 2),)
+>>> [needs(c, step), direct_needs(c, step)]
+[[(('core', 0, 1),), (('store', 0, 1),), (('shell', 0, 1),)], [(('store', 0, 1),), (('shell', 0, 1),)]]
+
+>>> from groupsteps.catalogs import catalog_of
+>>> from groupsteps.steps import needed_by
+>>> c = catalog_of([("core", ("store",), [[(0, 0)], [(0, 1)], [(1, None)]]), ("store", ("core",), [[(0, 1)], [(1, 2)]]), ("shell", ("core",), [[(0, 1)], [(0, 2)], [(2, None)]])])
+>>> needed_by(c, (("core", 0, 1),))
+[(('core', 1, 2),), (('store', 0, 1),), (('shell', 1, 2),)]
+
+>>> from groupsteps.catalogs import catalog_of
+>>> from groupsteps.steps import why_together
+>>> p = catalog_of([("core", ("store",), [[(0, 0)], [(1, 2)]]), ("store", ("core",), [[(0, 0)], [(1, None)]])])
+>>> why_together(p, (("core", 0, 1), ("store", 0, 1)), "core", "store")
+([('core', 1), ('store', 1)], [('store', 1), ('core', 1)])
+
+>>> from groupsteps.catalogs import catalog_of
+>>> from groupsteps.plans import available_steps, done_steps
+>>> c = catalog_of([("core", ("store",), [[(0, 0)], [(0, 1)], [(1, None)]]), ("store", ("core",), [[(0, 1)], [(1, 2)]]), ("shell", ("core",), [[(0, 1)], [(0, 2)], [(2, None)]])])
+>>> state = {"core": 1, "store": 0, "shell": 1}
+>>> [done_steps(c, state), available_steps(c, state)]
+[[(('core', 0, 1),), (('shell', 0, 1),)], [(('store', 0, 1),)]]
+
+>>> from groupsteps.catalogs import catalog_of
+>>> from groupsteps.plans import difference
+>>> c = catalog_of([("core", ("store",), [[(0, 0)], [(0, 1)], [(1, None)]]), ("store", ("core",), [[(0, 1)], [(1, 2)]]), ("shell", ("core",), [[(0, 1)], [(0, 2)], [(2, None)]])])
+>>> difference(c, {"core": 0, "store": 0, "shell": 1}, {"core": 2, "store": 1, "shell": 1})
+[(('core', 0, 1),), (('core', 1, 2),), (('store', 0, 1),)]
+
+>>> from groupsteps.catalogs import catalog_of
+>>> from groupsteps.plans import state_with
+>>> c = catalog_of([("core", ("store",), [[(0, 0)], [(0, 1)], [(1, None)]]), ("store", ("core",), [[(0, 1)], [(1, 2)]]), ("shell", ("core",), [[(0, 1)], [(0, 2)], [(2, None)]])])
+>>> state_with(c, [(("store", 0, 1),), (("core", 0, 1),)])
+{'core': 1, 'store': 1, 'shell': 0}
+
+>>> from groupsteps.catalogs import catalog_of
+>>> from groupsteps.plans import state_with
+>>> c = catalog_of([("core", ("store",), [[(0, 0)], [(0, 1)], [(1, None)]]), ("store", ("core",), [[(0, 1)], [(1, 2)]]), ("shell", ("core",), [[(0, 1)], [(0, 2)], [(2, None)]])])
+>>> state_with(c, [(("shell", 0, 1),), (("store", 0, 1),)])
+raises MissingNeed(step=(('store', 0, 1),))
+
+>>> from groupsteps.catalogs import catalog_of
+>>> from groupsteps.plans import plan_for, target_state
+>>> c = catalog_of([("core", ("store",), [[(0, 0)], [(0, 1)], [(1, None)]]), ("store", ("core",), [[(0, 1)], [(1, 2)]]), ("shell", ("core",), [[(0, 1)], [(0, 2)], [(2, None)]])])
+>>> state = {"core": 0, "store": 0, "shell": 0}
+>>> [target_state(c, state, [("shell", 2)]), plan_for(c, state, [("shell", 2)])]
+[{'core': 2, 'store': 1, 'shell': 2}, [(('core', 0, 1),), (('store', 0, 1),), (('shell', 0, 1),), (('core', 1, 2),), (('shell', 1, 2),)]]
+
+>>> from groupsteps.catalogs import catalog_of
+>>> from groupsteps.plans import walk, ways
+>>> c = catalog_of([("core", ("store",), [[(0, 0)], [(0, 1)], [(1, None)]]), ("store", ("core",), [[(0, 1)], [(1, 2)]]), ("shell", ("core",), [[(0, 1)], [(0, 2)], [(2, None)]])])
+>>> low = {"core": 0, "store": 0, "shell": 0}
+>>> [list(walk(c, low, [("core", 1)])), list(ways(c, low, {"core": 1, "store": 0, "shell": 1}))]
+[[((('core', 0, 1),), {'core': 1, 'store': 0, 'shell': 0})], [[(('core', 0, 1),), (('shell', 0, 1),)], [(('shell', 0, 1),), (('core', 0, 1),)]]]
+
+>>> from groupsteps.catalogs import catalog_of
+>>> from groupsteps.plans import is_plan, state_after
+>>> c = catalog_of([("core", ("store",), [[(0, 0)], [(0, 1)], [(1, None)]]), ("store", ("core",), [[(0, 1)], [(1, 2)]]), ("shell", ("core",), [[(0, 1)], [(0, 2)], [(2, None)]])])
+>>> state = {"core": 0, "store": 0, "shell": 0}
+>>> steps = [(("core", 0, 1),), (("store", 0, 1),)]
+>>> [state_after(c, state, steps), is_plan(c, state, steps[::-1])]
+[{'core': 1, 'store': 1, 'shell': 0}, False]
+
+>>> from groupsteps.catalogs import catalog_of
+>>> from groupsteps.plans import longest_sequence, rounds
+>>> c = catalog_of([("core", ("store",), [[(0, 0)], [(0, 1)], [(1, None)]]), ("store", ("core",), [[(0, 1)], [(1, 2)]]), ("shell", ("core",), [[(0, 1)], [(0, 2)], [(2, None)]])])
+>>> state = {"core": 0, "store": 0, "shell": 0}
+>>> [rounds(c, state, [("shell", 2)]), longest_sequence(c, state, [("shell", 2)])]
+[[[(('core', 0, 1),), (('shell', 0, 1),)], [(('store', 0, 1),)], [(('core', 1, 2),)], [(('shell', 1, 2),)]], [(('core', 0, 1),), (('store', 0, 1),), (('core', 1, 2),), (('shell', 1, 2),)]]
+
+>>> from groupsteps.catalogs import catalog_of
+>>> from groupsteps.systems import System
+>>> c = catalog_of([("core", ("store",), [[(0, 0)], [(0, 1)], [(1, None)]]), ("store", ("core",), [[(0, 1)], [(1, 2)]]), ("shell", ("core",), [[(0, 1)], [(0, 2)], [(2, None)]])])
+>>> s = System.meeting(c, ("store", 1), ("shell", 1))
+>>> [str(s), System.state_text({"b": 2, "a": 0}), System.MOST_GOALS]
+['core=1 store=1 shell=1', 'b=2 a=0', 12]
+
+>>> from groupsteps.catalogs import catalog_of
+>>> from groupsteps.systems import System
+>>> c = catalog_of([("core", ("store",), [[(0, 0)], [(0, 1)], [(1, None)]]), ("store", ("core",), [[(0, 1)], [(1, 2)]]), ("shell", ("core",), [[(0, 1)], [(0, 2)], [(2, None)]])])
+>>> s = System(c)
+>>> first = s.progress
+>>> s.perform((("core", 0, 1),))
+>>> [first, s.progress]
+[(0, 5), (1, 5)]
+
+>>> from groupsteps.catalogs import catalog_of
+>>> from groupsteps.systems import System
+>>> c = catalog_of([("core", ("store",), [[(0, 0)], [(0, 1)], [(1, None)]]), ("store", ("core",), [[(0, 1)], [(1, 2)]]), ("shell", ("core",), [[(0, 1)], [(0, 2)], [(2, None)]])])
+>>> s = System(c)
+>>> s.perform((("shell", 0, 1),))
+>>> [s.state(), s.available(), s.entries()]
+[{'core': 0, 'store': 0, 'shell': 1}, [(('core', 0, 1),)], [('perform', (('shell', 0, 1),))]]
+
+>>> from groupsteps.catalogs import catalog_of
+>>> from groupsteps.systems import System
+>>> c = catalog_of([("core", ("store",), [[(0, 0)], [(0, 1)], [(1, None)]]), ("store", ("core",), [[(0, 1)], [(1, 2)]]), ("shell", ("core",), [[(0, 1)], [(0, 2)], [(2, None)]])])
+>>> s = System(c)
+>>> s.pin("core", 0)
+>>> s.perform((("core", 0, 1),))
+raises Pinned(module='core', version=0)
+
+>>> from groupsteps.catalogs import catalog_of
+>>> from groupsteps.systems import System
+>>> c = catalog_of([("core", ("store",), [[(0, 0)], [(0, 1)], [(1, None)]]), ("store", ("core",), [[(0, 1)], [(1, 2)]]), ("shell", ("core",), [[(0, 1)], [(0, 2)], [(2, None)]])])
+>>> s = System(c)
+>>> s.add_goal("ann", "core", 1)
+>>> s.drop_goals("ann")
+>>> s.pin("core", 1)
+>>> s.unpin("core")
+>>> [s.operators(), s.pins(), s.start()[1], len(s)]
+[[], {}, {'core': 0, 'store': 0, 'shell': 0}, 4]
+
+>>> from groupsteps.catalogs import catalog_of
+>>> from groupsteps.systems import System
+>>> c = catalog_of([("core", ("store",), [[(0, 0)], [(0, 1)], [(1, None)]]), ("store", ("core",), [[(0, 1)], [(1, 2)]]), ("shell", ("core",), [[(0, 1)], [(0, 2)], [(2, None)]])])
+>>> s = System(c)
+>>> s.add_goal("ann", "store", 1)
+>>> s.add_goal("bob", "shell", 1)
+>>> s.pin("core", 0)
+>>> [s.operators(), s.goals("ann"), s.blocked("ann"), s.blocked("bob"), s.plan()]
+[['ann', 'bob'], [('store', 1)], [('store', 1)], [], [(('core', 0, 1),), (('store', 0, 1),), (('shell', 0, 1),)]]
+
+>>> from groupsteps.catalogs import catalog_of
+>>> from groupsteps.systems import System
+>>> c = catalog_of([("core", ("store",), [[(0, 0)], [(0, 1)], [(1, None)]]), ("store", ("core",), [[(0, 1)], [(1, 2)]]), ("shell", ("core",), [[(0, 1)], [(0, 2)], [(2, None)]])])
+>>> s = System(c)
+>>> s.add_goal("ann", "store", 1)
+>>> s.add_goal("bob", "core", 1)
+>>> [s.run("ann"), s.run("bob"), str(s)]
+[[(('core', 0, 1),), (('store', 0, 1),)], [], 'core=1 store=1 shell=0']
+
+>>> from groupsteps.catalogs import catalog_of
+>>> from groupsteps.systems import System
+>>> c = catalog_of([("core", ("store",), [[(0, 0)], [(0, 1)], [(1, None)]]), ("store", ("core",), [[(0, 1)], [(1, 2)]]), ("shell", ("core",), [[(0, 1)], [(0, 2)], [(2, None)]])])
+>>> s = System(c, {"core": 2, "store": 1, "shell": 1})
+>>> undone = s.retreat("store", 0)
+>>> first = str(s)
+>>> s.undo()
+>>> [undone, first, str(s)]
+[[(('core', 1, 2),), (('store', 0, 1),)], 'core=1 store=0 shell=1', 'core=2 store=1 shell=1']
+
+>>> from groupsteps.catalogs import catalog_of
+>>> from groupsteps.systems import System
+>>> c = catalog_of([("core", ("store",), [[(0, 0)], [(0, 1)], [(1, None)]]), ("store", ("core",), [[(0, 1)], [(1, 2)]]), ("shell", ("core",), [[(0, 1)], [(0, 2)], [(2, None)]])])
+>>> s = System(c)
+>>> t = s.clone()
+>>> t.pin("core", 1)
+>>> [s == t, len(t), repr(t), t.pins()]
+[False, 1, 'System(core=0 store=0 shell=0)', {'core': 1}]
+
+>>> from groupsteps.catalogs import catalog_of
+>>> from groupsteps.runtimes import Runtime
+>>> c = catalog_of([("core", ("store",), [[(0, 0)], [(0, 1)], [(1, None)]]), ("store", ("core",), [[(0, 1)], [(1, 2)]]), ("shell", ("core",), [[(0, 1)], [(0, 2)], [(2, None)]])])
+>>> r = Runtime(c)
+>>> r.begin("x")
+>>> r.perform((("core", 0, 1),))
+>>> r.begin("y")
+>>> [r.sessions(), r.session_state("x"), r.advance("x"), r.session_state("x")]
+[['x', 'y'], {'core': 0, 'store': 0, 'shell': 0}, [(('core', 0, 1),)], {'core': 1, 'store': 0, 'shell': 0}]
+
+>>> from groupsteps.catalogs import catalog_of
+>>> from groupsteps.runtimes import Runtime
+>>> c = catalog_of([("core", ("store",), [[(0, 0)], [(0, 1)], [(1, None)]]), ("store", ("core",), [[(0, 1)], [(1, 2)]]), ("shell", ("core",), [[(0, 1)], [(0, 2)], [(2, None)]])])
+>>> r = Runtime(c)
+>>> r.perform((("shell", 0, 1),))
+>>> r.begin("x")
+>>> undone = r.retreat("core", 0)
+>>> r.undo(count=2)
+>>> r.perform((("core", 0, 1),))
+>>> r.begin("y")
+>>> [r.talk("x", "y"), r.state()]
+[{'core': 1, 'store': 0, 'shell': 1}, {'core': 1, 'store': 0, 'shell': 0}]
+
+>>> from groupsteps.catalogs import catalog_of
+>>> from groupsteps.runtimes import Runtime
+>>> c = catalog_of([("core", ("store",), [[(0, 0)], [(0, 1)], [(1, None)]]), ("store", ("core",), [[(0, 1)], [(1, 2)]]), ("shell", ("core",), [[(0, 1)], [(0, 2)], [(2, None)]])])
+>>> r = Runtime(c)
+>>> r.begin("x")
+>>> r.perform((("shell", 0, 1),))
+>>> number = r.publish("shell", [(2, None)])
+>>> [number, r.running("shell"), r.catalog().versions("shell"), c.versions("shell")]
+[3, [0, 1], 4, 3]
+
+>>> from groupsteps.catalogs import catalog_of
+>>> from groupsteps.runtimes import Runtime
+>>> c = catalog_of([("core", ("store",), [[(0, 0)], [(0, 1)], [(1, None)]]), ("store", ("core",), [[(0, 1)], [(1, 2)]]), ("shell", ("core",), [[(0, 1)], [(0, 2)], [(2, None)]])])
+>>> r = Runtime(c)
+>>> r.begin("x")
+>>> r.perform((("shell", 0, 1),))
+>>> r.withdraw("shell", 0)
+raises InUse(module='shell', version=0)
+
+>>> from groupsteps.catalogs import catalog_of
+>>> from groupsteps.runtimes import Runtime
+>>> from groupsteps.systems import System
+>>> c = catalog_of([("core", ("store",), [[(0, 0)], [(0, 1)], [(1, None)]]), ("store", ("core",), [[(0, 1)], [(1, 2)]]), ("shell", ("core",), [[(0, 1)], [(0, 2)], [(2, None)]])])
+>>> r = Runtime(c)
+>>> q = r.clone()
+>>> q.begin("x")
+>>> q.finish("x")
+>>> [r == q, r == System(c), len(q), repr(q)]
+[True, False, 2, 'Runtime(core=0 store=0 shell=0)']
 '''
 
 
@@ -187,7 +426,7 @@ def outcome(lines):
 class Examples(unittest.TestCase):
     def test_every_example(self):
         blocks = EXAMPLES.strip().split("\n\n")
-        self.assertEqual(len(blocks), 30)
+        self.assertEqual(len(blocks), 60)
         for block in blocks:
             with self.subTest(block):
                 *lines, expected = block.split("\n")

@@ -1,6 +1,7 @@
 """The form of the package: those rules of the language subset that are easy to check by machine."""
 
 import ast
+import builtins
 import re
 import unittest
 import warnings
@@ -16,14 +17,28 @@ INTERFACE = {
     "states.py": ["is_state", "conflicts", "first_conflict", "is_below", "lower_state", "upper_state"],
     "demands.py": ["is_demand", "settled", "following", "is_chain", "failing_chain", "demanded"],
     "least.py": ["least_state", "greatest_state", "least_with", "greatest_with", "least_meeting", "why"],
+    "steps.py": ["all_steps", "is_step", "step_to", "start_of", "end_of", "needs", "direct_needs", "needed_by",
+                 "why_together"],
+    "plans.py": ["done_steps", "available_steps", "difference", "state_with", "target_state", "plan_for", "walk", "ways",
+                 "is_plan", "state_after", "rounds", "longest_sequence"],
+    "systems.py": ["System"],
+    "runtimes.py": ["Runtime"],
 }
 # The methods that the interface lists for each class.
 METHODS = {
     "Catalog": ["__init__", "modules", "uses", "users", "versions", "publish", "window", "withdraw", "is_available",
                 "available", "history", "clone", "__eq__", "__len__", "__repr__"],
+    "System": ["__init__", "meeting", "state_text", "progress", "catalog", "state", "entries", "start", "available",
+               "perform", "pin", "unpin", "pins", "add_goal", "drop_goals", "operators", "goals", "blocked", "plan", "run",
+               "retreat", "undo", "clone", "__eq__", "__len__", "__str__", "__repr__"],
+    "Runtime": ["__init__", "begin", "finish", "sessions", "session_state", "session_limit", "advance", "talk", "running",
+                "publish", "withdraw", "clone", "__eq__", "__repr__"],
 }
 OWN_METHODS = ["__init__", "__eq__", "__len__", "__repr__", "__str__"]
-METHODS_OF_VALUES = {"append", "add", "get", "index", "items", "join", "partition", "values"}
+METHODS_OF_VALUES = {"append", "add", "endswith", "extend", "get", "index", "items", "join", "partition", "pop",
+                     "removesuffix", "split", "values"}
+# What stands at a class itself; it is neither a method of an object nor an attribute.
+CLASS_VALUES = {"MOST_OPERATORS", "MOST_GOALS", "MOST_SESSIONS", "KIND"}
 # With these a list must be given, not a generator expression.
 TAKE_LISTS = ["any", "all", "min", "max", "sum", "sorted"]
 BARRED_WORDS = re.compile(
@@ -57,6 +72,10 @@ def defined_names(path):
         elif isinstance(node, ast.Assign):
             names.append(node.targets[0].id)
     return names
+
+
+def is_setter(function):
+    return any(isinstance(each, ast.Attribute) and each.attr == "setter" for each in function.decorator_list)
 
 
 def bound_names(path):
@@ -118,7 +137,7 @@ class Form(unittest.TestCase):
             level = defined_names(path) + [alias.name for node in nodes(path, ast.ImportFrom) for alias in node.names]
             with self.subTest(path.name):
                 self.assertEqual(len(level), len(set(level)))
-                self.assertEqual(BUILTINS & set(bound), set())
+                self.assertEqual(set(dir(builtins)) & set(bound), set())
                 self.assertEqual([name for name in bound if name.startswith("_") and name not in OWN_METHODS], [])
 
     def test_no_local_name_hides_a_class_or_an_import(self):
@@ -145,20 +164,56 @@ class Form(unittest.TestCase):
     def test_the_methods_stand_in_their_classes(self):
         found = {node.name: node for path in package_files() for node in nodes(path, ast.ClassDef)}
         for name, listed in METHODS.items():
-            defined = [each.name for each in found[name].body if isinstance(each, ast.FunctionDef)]
+            body = [each for each in found[name].body if isinstance(each, ast.FunctionDef)]
+            defined = [each.name for each in body if not is_setter(each)]
             with self.subTest(name):
                 self.assertEqual(len(defined), len(set(defined)))
                 self.assertEqual([each for each in listed if each not in defined], [])
 
     def test_no_attribute_has_the_name_of_a_method(self):
-        methods, assigned, read = set(), set(), set()
+        methods, settable, assigned, read = set(), set(), set(), set()
         for path in package_files():
             for node in nodes(path, ast.ClassDef):
-                methods |= {each.name for each in node.body if isinstance(each, ast.FunctionDef)}
+                body = [each for each in node.body if isinstance(each, ast.FunctionDef)]
+                methods |= {each.name for each in body}
+                settable |= {each.name for each in body if is_setter(each)}
             for node in nodes(path, ast.Attribute):
                 (assigned if isinstance(node.ctx, ast.Store) else read).add(node.attr)
-        self.assertEqual(methods & assigned, set())
-        self.assertEqual(read - assigned - methods - METHODS_OF_VALUES, set())
+        self.assertEqual(settable, {"session_limit"})
+        self.assertLessEqual(methods & assigned, settable)
+        self.assertEqual(read - assigned - methods - METHODS_OF_VALUES - CLASS_VALUES, {"setter"})
+
+    def test_class_values_are_read_only(self):
+        for path in package_files():
+            for node in nodes(path, ast.Attribute):
+                if node.attr in CLASS_VALUES:
+                    self.assertIsInstance(node.ctx, ast.Load)
+
+    def test_errors_are_created_where_they_are_raised(self):
+        for path in package_files():
+            for node in nodes(path, ast.Raise):
+                with self.subTest(path.name, line=node.lineno):
+                    self.assertIsInstance(node.exc, ast.Call)
+                    self.assertIn(node.exc.func.id, defined_names(FOLDER / "errors.py"))
+            for node in nodes(path, ast.ExceptHandler):
+                caught = node.type.elts if isinstance(node.type, ast.Tuple) else [node.type]
+                for each in caught:
+                    self.assertIn(each.id, defined_names(FOLDER / "errors.py"))
+
+    def test_is_stands_beside_none_true_and_false_only(self):
+        for path in package_files():
+            for node in nodes(path, ast.Compare):
+                for sign, right in zip(node.ops, node.comparators):
+                    if isinstance(sign, (ast.Is, ast.IsNot)):
+                        self.assertIn(right.value, [None, True, False])
+
+    def test_generators_are_not_called(self):
+        for path in package_files():
+            made = {function.name for function in nodes(path, ast.FunctionDef)
+                    if any(isinstance(each, (ast.Yield, ast.YieldFrom)) for each in ast.walk(function))}
+            self.assertLessEqual(made, {"walk", "ways"})
+            called = {node.func.id for node in nodes(path, ast.Call) if isinstance(node.func, ast.Name)}
+            self.assertEqual(called & {"walk", "ways"}, set())
 
     def test_lists_and_no_generator_expressions(self):
         for path in package_files():
