@@ -353,6 +353,15 @@ raises Pinned(module='core', version=0)
 [False, 1, 'System(core=0 store=0 shell=0)', {'core': 1}]
 
 >>> from groupsteps.catalogs import catalog_of
+>>> from groupsteps.histories import attempt
+>>> from groupsteps.runtimes import Runtime
+>>> c = catalog_of([("core", ("store",), [[(0, 0)], [(0, 1)], [(1, None)]]), ("store", ("core",), [[(0, 1)], [(1, 2)]]), ("shell", ("core",), [[(0, 1)], [(0, 2)], [(2, None)]])])
+>>> r = Runtime(c)
+>>> results = attempt(r, ("limit", 1), ("begin", "x"))
+>>> r.begin("y")
+raises TooMany(kind='sessions', limit=1)
+
+>>> from groupsteps.catalogs import catalog_of
 >>> from groupsteps.runtimes import Runtime
 >>> c = catalog_of([("core", ("store",), [[(0, 0)], [(0, 1)], [(1, None)]]), ("store", ("core",), [[(0, 1)], [(1, 2)]]), ("shell", ("core",), [[(0, 1)], [(0, 2)], [(2, None)]])])
 >>> r = Runtime(c)
@@ -404,6 +413,92 @@ raises InUse(module='shell', version=0)
 >>> q.finish("x")
 >>> [r == q, r == System(c), len(q), repr(q)]
 [True, False, 2, 'Runtime(core=0 store=0 shell=0)']
+
+>>> from groupsteps.catalogs import catalog_of
+>>> from groupsteps.changes import compare
+>>> c = catalog_of([("core", ("store",), [[(0, 0)], [(0, 1)], [(1, None)]]), ("store", ("core",), [[(0, 1)], [(1, 2)]]), ("shell", ("core",), [[(0, 1)], [(0, 2)], [(2, None)]])])
+>>> d = c.clone()
+>>> d.withdraw("core", 1)
+>>> compare(c, d)
+([(('shell', 0, 1),), (('shell', 1, 2),)], [((('core', 0, 2), ('store', 0, 1)), [(('core', 0, 1),), (('core', 1, 2),), (('store', 0, 1),)])], [], [])
+
+>>> from groupsteps.catalogs import catalog_of
+>>> from groupsteps.changes import compare
+>>> c = catalog_of([("core", ("store",), [[(0, 0)], [(0, 1)], [(1, None)]]), ("store", ("core",), [[(0, 1)], [(1, 2)]]), ("shell", ("core",), [[(0, 1)], [(0, 2)], [(2, None)]])])
+>>> d = c.clone()
+>>> number = d.publish("core", [(1, None)])
+>>> d.withdraw("core", 2)
+>>> compare(c, d)
+([(('core', 0, 1),), (('store', 0, 1),), (('shell', 0, 1),)], [], [], [(('core', 1, 2),), (('shell', 1, 2),)])
+
+>>> from groupsteps.texts import format_step, parse_step
+>>> [format_step((("core", 0, 1), ("store", 0, 2))), parse_step("a:3:4")]
+['core:0:1,store:0:2', (('a', 3, 4),)]
+
+>>> from groupsteps.catalogs import catalog_of
+>>> from groupsteps.texts import format_catalog
+>>> format_catalog(catalog_of([("core", ("store",), [[(0, 0)]]), ("store", (), [[], []])]))
+'module core store\nmodule store\npublish core 0..0\npublish store\npublish store\n'
+
+>>> from groupsteps.texts import parse_catalog
+>>> c = parse_catalog("module core store\nmodule store\npublish core 0..\npublish store\nwithdraw store 0\n")
+>>> [c.modules(), c.window("core", "store", 0), c.available("store")]
+[['core', 'store'], (0, None), []]
+
+>>> from groupsteps.texts import parse_catalog
+>>> parse_catalog("module core store\nmodule shell\n")
+raises InvalidText(line=1)
+
+>>> from groupsteps.catalogs import catalog_of
+>>> from groupsteps.histories import save
+>>> from groupsteps.runtimes import Runtime
+>>> r = Runtime(catalog_of([("core", (), [[], []])]))
+>>> r.perform((("core", 0, 1),))
+>>> r.add_goal("ann", "core", 1)
+>>> save(r)
+'module core\npublish core\npublish core\nstate 0\nperform core:0:1\ngoal ann core 1\n'
+
+>>> from groupsteps.histories import load
+>>> r = load("module core\npublish core\npublish core\nstate 0\nperform core:0:1\nundo 1\n")
+>>> [r.state(), r.entries()]
+[{'core': 0}, [('perform', (('core', 0, 1),)), ('undo', 1)]]
+
+>>> from groupsteps.histories import load
+>>> load("module core\npublish core\nstate 0\nundo 1\n")
+raises InvalidText(line=4)
+
+>>> from groupsteps.catalogs import catalog_of
+>>> from groupsteps.histories import attempt
+>>> from groupsteps.runtimes import Runtime
+>>> c = catalog_of([("core", ("store",), [[(0, 0)], [(0, 1)], [(1, None)]]), ("store", ("core",), [[(0, 1)], [(1, 2)]]), ("shell", ("core",), [[(0, 1)], [(0, 2)], [(2, None)]])])
+>>> r = Runtime(c)
+>>> results = attempt(r, ("goal", "ann", "store", 1), ("run", "ann"), ("limit", 3))
+>>> [results, r.session_limit, len(r)]
+[[None, [(('core', 0, 1),), (('store', 0, 1),)], None], 3, 3]
+
+>>> from groupsteps.catalogs import catalog_of
+>>> from groupsteps.histories import attempt
+>>> from groupsteps.runtimes import Runtime
+>>> c = catalog_of([("core", ("store",), [[(0, 0)], [(0, 1)], [(1, None)]]), ("store", ("core",), [[(0, 1)], [(1, 2)]]), ("shell", ("core",), [[(0, 1)], [(0, 2)], [(2, None)]])])
+>>> r = Runtime(c)
+>>> attempt(r, ("perform", (("core", 0, 1),)), ("undo", 2))
+raises NothingToUndo
+
+>>> from groupsteps.catalogs import catalog_of
+>>> from groupsteps.console import Console
+>>> c = catalog_of([("core", ("store",), [[(0, 0)], [(0, 1)], [(1, None)]]), ("store", ("core",), [[(0, 1)], [(1, 2)]]), ("shell", ("core",), [[(0, 1)], [(0, 2)], [(2, None)]])])
+>>> k = Console(c)
+>>> k.run(["goal ann store 1", "run ann", "state", "why shell 2 store", "available"])
+['ok', 'core:0:1 store:0:1', 'core=1 store=1 shell=0', 'shell:2 core:2 store:1', 'shell:0:1']
+
+>>> from groupsteps.catalogs import catalog_of
+>>> from groupsteps.console import Console
+>>> c = catalog_of([("core", ("store",), [[(0, 0)], [(0, 1)], [(1, None)]]), ("store", ("core",), [[(0, 1)], [(1, 2)]]), ("shell", ("core",), [[(0, 1)], [(0, 2)], [(2, None)]])])
+>>> k = Console(c)
+>>> results = [k.execute("begin x")]
+>>> k.run(["state x", "running core"])
+>>> [results, k.log(), k.runtime().sessions()]
+[['ok'], [('begin', 2), ('end', 2)], ['x']]
 '''
 
 
@@ -426,7 +521,7 @@ def outcome(lines):
 class Examples(unittest.TestCase):
     def test_every_example(self):
         blocks = EXAMPLES.strip().split("\n\n")
-        self.assertEqual(len(blocks), 60)
+        self.assertEqual(len(blocks), 74)
         for block in blocks:
             with self.subTest(block):
                 *lines, expected = block.split("\n")

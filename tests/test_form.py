@@ -23,6 +23,10 @@ INTERFACE = {
                  "is_plan", "state_after", "rounds", "longest_sequence"],
     "systems.py": ["System"],
     "runtimes.py": ["Runtime"],
+    "changes.py": ["compare"],
+    "texts.py": ["format_step", "parse_step", "format_catalog", "parse_catalog"],
+    "histories.py": ["save", "load", "attempt"],
+    "console.py": ["Console"],
 }
 # The methods that the interface lists for each class.
 METHODS = {
@@ -33,6 +37,7 @@ METHODS = {
                "retreat", "undo", "clone", "__eq__", "__len__", "__str__", "__repr__"],
     "Runtime": ["__init__", "begin", "finish", "sessions", "session_state", "session_limit", "advance", "talk", "running",
                 "publish", "withdraw", "clone", "__eq__", "__repr__"],
+    "Console": ["__init__", "execute", "run", "log", "runtime"],
 }
 OWN_METHODS = ["__init__", "__eq__", "__len__", "__repr__", "__str__"]
 METHODS_OF_VALUES = {"append", "add", "endswith", "extend", "get", "index", "items", "join", "partition", "pop",
