@@ -89,16 +89,14 @@ def execute_on(runtime, command):
     if not isinstance(command, str) or "\n" in command:
         raise InvalidCommand("no line of words")
     words = command.split(" ")
+    is_query = words[0] in QUERY_KINDS
     try:
-        if words[0] in QUERY_KINDS:
-            items = parse_query(words)
-        else:
-            items = parse_entry(words)
+        parsed = parse_query(words) if is_query else parse_entry(words)
     except InvalidText:
         raise InvalidCommand("no command")
-    if words[0] in QUERY_KINDS:
-        return answer(runtime, words[0], items)
-    return result_text(words[0], perform_entry(runtime, items))
+    if is_query:
+        return answer(runtime, words[0], parsed)
+    return result_text(words[0], perform_entry(runtime, parsed))
 
 
 class Console:
